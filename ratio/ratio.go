@@ -77,34 +77,26 @@ func Compare(a, b api.Rat) (int, api.Errno) {
 	})
 }
 
-// Add returns the sum.
-func Add(a, b api.Rat) (api.Rat, api.Errno) {
+// ofTwo makes a number of the terms that a calculation with two numbers gives.
+func ofTwo(a, b api.Rat, terms func(k *keeper, x, y fraction) fraction) (api.Rat, api.Errno) {
 	return result(func(k *keeper) fraction {
 		x, y := k.split(a), k.split(b)
-		return k.sum(x, y)
+		return terms(k, x, y)
 	})
 }
+
+// Add returns the sum.
+func Add(a, b api.Rat) (api.Rat, api.Errno) { return ofTwo(a, b, (*keeper).sum) }
 
 // Sub returns the difference.
-func Sub(a, b api.Rat) (api.Rat, api.Errno) {
-	return result(func(k *keeper) fraction {
-		x, y := k.split(a), k.split(b)
-		return k.difference(x, y)
-	})
-}
+func Sub(a, b api.Rat) (api.Rat, api.Errno) { return ofTwo(a, b, (*keeper).difference) }
 
 // Mul returns the product.
-func Mul(a, b api.Rat) (api.Rat, api.Errno) {
-	return result(func(k *keeper) fraction {
-		x, y := k.split(a), k.split(b)
-		return k.product(x, y)
-	})
-}
+func Mul(a, b api.Rat) (api.Rat, api.Errno) { return ofTwo(a, b, (*keeper).product) }
 
 // Div returns the quotient.
 func Div(a, b api.Rat) (api.Rat, api.Errno) {
-	return result(func(k *keeper) fraction {
-		x, y := k.split(a), k.split(b)
+	return ofTwo(a, b, func(k *keeper, x, y fraction) fraction {
 		if k.sign(y.num) == 0 {
 			k.keep(api.ErrZero)
 		}
