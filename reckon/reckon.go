@@ -21,6 +21,18 @@ func Result[T any](calculate func(k *Keeper) T) (T, api.Errno) {
 	return result, api.OK
 }
 
+// Check returns the error of the first number of lists with one.
+func Check(lists ...[]api.Rat) api.Errno {
+	for _, l := range lists {
+		for _, a := range l {
+			if e := ratio.Check(a); e != api.OK {
+				return e
+			}
+		}
+	}
+	return api.OK
+}
+
 // Keep keeps an error unless there was one before.
 func (k *Keeper) Keep(e api.Errno) {
 	if k.Errno == api.OK {
@@ -45,12 +57,12 @@ func (k *Keeper) Order(a, b api.Rat) int {
 // Sum returns a + b. Of denominators with common divisors, ratio.Add makes longer products than the sum needs;
 // here only the numerator over the least common denominator, and this denominator, may be too long.
 func (k *Keeper) Sum(a, b api.Rat) api.Rat {
-	n, p := k.parts(a)
-	m, q := k.parts(b)
-	common := k.whole(whole.Gcd, p, q)
-	more, other := k.whole(whole.Quo, q, common), k.whole(whole.Quo, p, common)
-	num := k.whole(whole.Add, k.whole(whole.Mul, n, more), k.whole(whole.Mul, m, other))
-	return k.quotient(num, k.whole(whole.Mul, p, more))
+	n, p := k.Parts(a)
+	m, q := k.Parts(b)
+	common := k.Whole(whole.Gcd, p, q)
+	more, other := k.Whole(whole.Quo, q, common), k.Whole(whole.Quo, p, common)
+	num := k.Whole(whole.Add, k.Whole(whole.Mul, n, more), k.Whole(whole.Mul, m, other))
+	return k.Quotient(num, k.Whole(whole.Mul, p, more))
 }
 
 // Difference returns a - b, as Sum does.
@@ -62,27 +74,41 @@ func (k *Keeper) Difference(a, b api.Rat) api.Rat {
 
 // Product returns a b. It is too long only if the product in lowest terms is, unlike that of ratio.Mul.
 func (k *Keeper) Product(a, b api.Rat) api.Rat {
-	n, p := k.parts(a)
-	m, q := k.parts(b)
-	x, y := k.quotient(n, q), k.quotient(m, p)
-	n, q = k.parts(x)
-	m, p = k.parts(y)
-	return k.quotient(k.whole(whole.Mul, n, m), k.whole(whole.Mul, p, q))
+	n, p := k.Parts(a)
+	m, q := k.Parts(b)
+	x, y := k.Quotient(n, q), k.Quotient(m, p)
+	n, q = k.Parts(x)
+	m, p = k.Parts(y)
+	return k.Quotient(k.Whole(whole.Mul, n, m), k.Whole(whole.Mul, p, q))
 }
 
-func (k *Keeper) parts(a api.Rat) (api.Int, api.Int) {
+// Dot returns the sum of the products of the numbers of two lists. Products with 0 are left out.
+func (k *Keeper) Dot(a, b []api.Rat) api.Rat {
+	sum := api.Rat("0")
+	for i, x := range a {
+		if x != "0" && b[i] != "0" {
+			sum = k.Sum(sum, k.Product(x, b[i]))
+		}
+	}
+	return sum
+}
+
+// Parts returns the numerator and the denominator of a number.
+func (k *Keeper) Parts(a api.Rat) (api.Int, api.Int) {
 	num, den, e := ratio.Parts(a)
 	k.Keep(e)
 	return num, den
 }
 
-func (k *Keeper) quotient(num, den api.Int) api.Rat {
+// Quotient returns the quotient of two integers in lowest terms.
+func (k *Keeper) Quotient(num, den api.Int) api.Rat {
 	a, e := ratio.Make(num, den)
 	k.Keep(e)
 	return a
 }
 
-func (k *Keeper) whole(operation func(a, b api.Int) (api.Int, api.Errno), a, b api.Int) api.Int {
+// Whole returns the result of an operation with two integers.
+func (k *Keeper) Whole(operation func(a, b api.Int) (api.Int, api.Errno), a, b api.Int) api.Int {
 	c, e := operation(a, b)
 	k.Keep(e)
 	return c

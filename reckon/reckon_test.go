@@ -9,6 +9,7 @@ import (
 	"metrolab/api"
 	"metrolab/ratio"
 	"metrolab/reckon"
+	"metrolab/whole"
 )
 
 func value(a api.Rat) *big.Rat {
@@ -76,6 +77,59 @@ func TestLong(t *testing.T) {
 	} {
 		var k reckon.Keeper
 		if f(&k); k.Errno != api.ErrLarge {
+			t.Errorf("error %d", k.Errno)
+		}
+	}
+}
+
+func TestCheck(t *testing.T) {
+	long := api.Rat(strings.Repeat("7", 1025))
+	for i, x := range []struct {
+		lists [][]api.Rat
+		e     api.Errno
+	}{{nil, api.OK}, {[][]api.Rat{nil, {}}, api.OK}, {[][]api.Rat{{"1", "-1/2"}, nil, {"0"}}, api.OK}, {[][]api.Rat{{"1", "2/2"}, {long}}, api.ErrForm}, {[][]api.Rat{{"1"}, {long, ""}}, api.ErrLarge}} {
+		if e := reckon.Check(x.lists...); e != x.e {
+			t.Errorf("Check %d: %d instead of %d", i, e, x.e)
+		}
+	}
+}
+
+func TestDot(t *testing.T) {
+	all := numbers()
+	for i := range 15 {
+		var k reckon.Keeper
+		a, b, wanted := all[i:i+3], all[2*i:2*i+3], new(big.Rat)
+		for j, x := range a {
+			wanted.Add(wanted, new(big.Rat).Mul(value(x), value(b[j])))
+		}
+		if sum := k.Dot(a, b); sum != api.Rat(wanted.RatString()) || k.Errno != api.OK {
+			t.Errorf("Dot of %s and %s: %s, error %d", a, b, sum, k.Errno)
+		}
+	}
+	var k reckon.Keeper
+	if sum := k.Dot(nil, nil); sum != "0" || k.Errno != api.OK {
+		t.Errorf("Dot of nothing: %s, error %d", sum, k.Errno)
+	}
+	long := api.Rat(strings.Repeat("7", 600))
+	if k.Dot([]api.Rat{"1", long}, []api.Rat{"1", long}); k.Errno != api.ErrLarge {
+		t.Errorf("Dot of long numbers: error %d", k.Errno)
+	}
+}
+
+func TestIntegers(t *testing.T) {
+	var k reckon.Keeper
+	num, den := k.Parts("-3/4")
+	product, quotient := k.Whole(whole.Mul, num, den), k.Quotient("6", "-4")
+	if num != "-3" || den != "4" || product != "-12" || quotient != "-3/2" || k.Errno != api.OK {
+		t.Errorf("%s, %s, %s, %s, error %d", num, den, product, quotient, k.Errno)
+	}
+	for _, f := range []func(k *reckon.Keeper){
+		func(k *reckon.Keeper) { k.Parts("1/0") },
+		func(k *reckon.Keeper) { k.Whole(whole.Mul, "1", "01") },
+		func(k *reckon.Keeper) { k.Quotient("", "0") },
+	} {
+		var k reckon.Keeper
+		if f(&k); k.Errno != api.ErrForm {
 			t.Errorf("error %d", k.Errno)
 		}
 	}
