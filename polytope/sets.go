@@ -72,12 +72,3 @@ func collect[T any](from iter.Seq[[]int], wanted int, find func(set []int) (T, b
 	}
 	return found, api.OK
 }
-
-// chosen returns the bounds of a set of indices.
-func chosen(l []api.Bound, set []int) []api.Bound {
-	var found []api.Bound
-	for _, i := range set {
-		found = append(found, l[i])
-	}
-	return found
-}
