@@ -27,3 +27,30 @@ func TestAt(t *testing.T) {
 		t.Error("the elements are not new")
 	}
 }
+
+func TestSets(t *testing.T) {
+	for _, x := range []struct {
+		n, least, most int
+		want           [][]int
+	}{
+		{0, 0, 0, [][]int{{}}}, {3, 0, 0, [][]int{{}}}, {0, 1, 4, nil}, {3, 2, 1, nil}, {2, 3, 3, nil}, {1, 1, 3, [][]int{{0}}}, {3, 3, 3, [][]int{{0, 1, 2}}}, {4, 2, 2, [][]int{{0, 1}, {0, 2}, {0, 3}, {1, 2}, {1, 3}, {2, 3}}},
+		{3, 0, 9, [][]int{{}, {0}, {1}, {2}, {0, 1}, {0, 2}, {1, 2}, {0, 1, 2}}}, {4, 3, 4, [][]int{{0, 1, 2}, {0, 1, 3}, {0, 2, 3}, {1, 2, 3}, {0, 1, 2, 3}}},
+	} {
+		var got [][]int
+		for set := range pick.Sets(x.n, x.least, x.most) {
+			got = append(got, slices.Clone(set))
+		}
+		if !slices.EqualFunc(got, x.want, slices.Equal) {
+			t.Errorf("Sets(%d, %d, %d): %v instead of %v", x.n, x.least, x.most, got, x.want)
+		}
+	}
+	count := 0
+	for range pick.Sets(5, 1, 3) {
+		if count++; count == 8 {
+			break
+		}
+	}
+	if count != 8 {
+		t.Errorf("%d sets instead of 8", count)
+	}
+}

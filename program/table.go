@@ -6,7 +6,6 @@ import (
 
 	"metrolab/api"
 	"metrolab/reckon"
-	"metrolab/whole"
 )
 
 // none is the place of a row or a column that is not there.
@@ -50,38 +49,17 @@ func newTable(l []api.Bound, goal []api.Rat) *table {
 
 // add adds a row for the next variable, multiplied by the least factor that makes its numbers integers, and returns it.
 func (t *table) add(l []api.Rat) []api.Int {
-	factor := api.Int("1")
-	for _, a := range l {
-		_, den := t.Parts(a)
-		factor = t.times(factor, t.over(den, t.Whole(whole.Gcd, factor, den)))
-	}
-	var row []api.Int
-	for _, a := range l {
-		num, den := t.Parts(a)
-		row = append(row, t.times(num, t.over(factor, den)))
-	}
+	row, factor := t.Common(l)
 	t.inRow = append(t.inRow, len(t.rows))
 	t.rows = append(t.rows, row)
 	t.factors = append(t.factors, factor)
 	return row
 }
 
-func (t *table) times(a, b api.Int) api.Int { return t.Whole(whole.Mul, a, b) }
-
-func (t *table) minus(a, b api.Int) api.Int { return t.Whole(whole.Sub, a, b) }
-
-func (t *table) over(a, b api.Int) api.Int { return t.Whole(whole.Quo, a, b) }
-
 func (t *table) negate(l []api.Int) {
 	for i, a := range l {
-		l[i] = t.minus("0", a)
+		l[i] = t.Minus("0", a)
 	}
-}
-
-func (t *table) sign(a api.Int) int {
-	sign, e := whole.Sign(a)
-	t.Keep(e)
-	return sign
 }
 
 // slacks yields where among the variables of the rows, or of the columns, slacks stand, in the order of their bounds.
@@ -98,29 +76,21 @@ func (t *table) slacks(variables []int) iter.Seq[int] {
 // pivot exchanges the variable of a row for that of a column, whose number there is not 0.
 func (t *table) pivot(row, col int) {
 	own, den := t.rows[row], t.den
-	if t.sign(own[col]) < 0 {
+	if t.Sign(own[col]) < 0 {
 		t.negate(own)
-		den = t.minus("0", den)
+		den = t.Minus("0", den)
 	}
 	pivot := own[col]
-	own[col] = t.minus(pivot, den) // so that one rule gives what the others have in this column, too
+	own[col] = t.Minus(pivot, den) // so that one rule gives what the others have in this column, too
 	for i, other := range t.rows {
 		if i != row {
-			t.replace(other, own, col, pivot)
+			t.Combine(other, own, col, pivot, t.den)
 		}
 	}
 	t.negate(own)
 	own[col] = den
 	t.den = pivot
 	t.inRow[row], t.inCol[col] = t.inCol[col], t.inRow[row]
-}
-
-// replace puts what a row says into another one, in place of the variable of a column.
-func (t *table) replace(other, own []api.Int, col int, pivot api.Int) {
-	factor := other[col]
-	for j, x := range other {
-		other[j] = t.over(t.minus(t.times(x, pivot), t.times(factor, own[j])), t.den)
-	}
 }
 
 // work pivots where choose says, until there is no such row or no such column, and returns what there is.
@@ -168,7 +138,7 @@ func (t *table) improve() bool {
 // negative returns the first row whose slack is negative.
 func (t *table) negative() int {
 	for row := range t.slacks(t.inRow) {
-		if t.sign(t.constant(row)) < 0 {
+		if t.Sign(t.constant(row)) < 0 {
 			return row
 		}
 	}
@@ -180,7 +150,7 @@ func (t *table) constant(row int) api.Int { return t.rows[row][len(t.inCol)] }
 // rising returns the first column whose slack makes the variable of a row greater.
 func (t *table) rising(row int) int {
 	for col := range t.slacks(t.inCol) {
-		if t.sign(t.rows[row][col]) > 0 {
+		if t.Sign(t.rows[row][col]) > 0 {
 			return col
 		}
 	}
@@ -191,7 +161,7 @@ func (t *table) rising(row int) int {
 func (t *table) tightest(col int) int {
 	best := none
 	for row := range t.slacks(t.inRow) {
-		if t.sign(t.rows[row][col]) < 0 && (best == none || t.sooner(row, best, col)) {
+		if t.Sign(t.rows[row][col]) < 0 && (best == none || t.sooner(row, best, col)) {
 			best = row
 		}
 	}
@@ -200,8 +170,8 @@ func (t *table) tightest(col int) int {
 
 // sooner reports whether a row allows less of a column than another row.
 func (t *table) sooner(row, other, col int) bool {
-	mine, its := t.times(t.constant(row), t.rows[other][col]), t.times(t.constant(other), t.rows[row][col])
-	return t.sign(t.minus(mine, its)) > 0
+	mine, its := t.Times(t.constant(row), t.rows[other][col]), t.Times(t.constant(other), t.rows[row][col])
+	return t.Sign(t.Minus(mine, its)) > 0
 }
 
 // point returns the unknowns where the variables of the columns are 0.
@@ -217,17 +187,17 @@ func (t *table) point() []api.Rat {
 
 // value returns the goal there.
 func (t *table) value() api.Rat {
-	return t.Quotient(t.constant(t.bounds), t.times(t.den, t.factors[t.bounds]))
+	return t.Quotient(t.constant(t.bounds), t.Times(t.den, t.factors[t.bounds]))
 }
 
 // weights returns how much of each slack is taken away from the constant in a row of a slack or of the goal.
 func (t *table) weights(row int) []api.Rat {
 	weights := zeros(t.bounds)
-	den := t.times(t.den, t.factors[t.inRow[row]])
+	den := t.Times(t.den, t.factors[t.inRow[row]])
 	for col := range t.slacks(t.inCol) {
 		bound := t.inCol[col]
-		num := t.times(t.rows[row][col], t.factors[bound])
-		weights[bound] = t.Quotient(t.minus("0", num), den)
+		num := t.Times(t.rows[row][col], t.factors[bound])
+		weights[bound] = t.Quotient(t.Minus("0", num), den)
 	}
 	return weights
 }

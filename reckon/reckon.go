@@ -1,4 +1,4 @@
-// Package reckon helps the layers that calculate with rational numbers in many steps.
+// Package reckon helps the layers that calculate with rational numbers and integers in many steps.
 package reckon
 
 import (
@@ -60,9 +60,9 @@ func (k *Keeper) Sum(a, b api.Rat) api.Rat {
 	n, p := k.Parts(a)
 	m, q := k.Parts(b)
 	common := k.Whole(whole.Gcd, p, q)
-	more, other := k.Whole(whole.Quo, q, common), k.Whole(whole.Quo, p, common)
-	num := k.Whole(whole.Add, k.Whole(whole.Mul, n, more), k.Whole(whole.Mul, m, other))
-	return k.Quotient(num, k.Whole(whole.Mul, p, more))
+	more, other := k.Over(q, common), k.Over(p, common)
+	num := k.Plus(k.Times(n, more), k.Times(m, other))
+	return k.Quotient(num, k.Times(p, more))
 }
 
 // Difference returns a - b, as Sum does.
@@ -79,7 +79,7 @@ func (k *Keeper) Product(a, b api.Rat) api.Rat {
 	x, y := k.Quotient(n, q), k.Quotient(m, p)
 	n, q = k.Parts(x)
 	m, p = k.Parts(y)
-	return k.Quotient(k.Whole(whole.Mul, n, m), k.Whole(whole.Mul, p, q))
+	return k.Quotient(k.Times(n, m), k.Times(p, q))
 }
 
 // Dot returns the sum of the products of the numbers of two lists. Products with 0 are left out.
@@ -105,11 +105,4 @@ func (k *Keeper) Quotient(num, den api.Int) api.Rat {
 	a, e := ratio.Make(num, den)
 	k.Keep(e)
 	return a
-}
-
-// Whole returns the result of an operation with two integers.
-func (k *Keeper) Whole(operation func(a, b api.Int) (api.Int, api.Errno), a, b api.Int) api.Int {
-	c, e := operation(a, b)
-	k.Keep(e)
-	return c
 }

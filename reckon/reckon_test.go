@@ -3,6 +3,7 @@ package reckon_test
 import (
 	"math/big"
 	"math/rand"
+	"slices"
 	"strings"
 	"testing"
 
@@ -123,15 +124,60 @@ func TestIntegers(t *testing.T) {
 	if num != "-3" || den != "4" || product != "-12" || quotient != "-3/2" || k.Errno != api.OK {
 		t.Errorf("%s, %s, %s, %s, error %d", num, den, product, quotient, k.Errno)
 	}
+	for i, got := range []api.Int{k.Plus("7", "-12"), k.Minus("7", "-12"), k.Times("7", "-12"), k.Over("12", "-4"), k.Over("-7", "2"), k.Products([]api.Int{"2", "-3", "0"}, []api.Int{"5", "1", "9"}), k.Products(nil, nil), api.Int(ratio.Whole(k.Sign("-9") + 10*k.Sign("0") + 100*k.Sign("9")))} {
+		if want := []api.Int{"-5", "19", "-84", "-3", "-4", "7", "0", "99"}[i]; got != want || k.Errno != api.OK {
+			t.Errorf("%d: %s instead of %s, error %d", i, got, want, k.Errno)
+		}
+	}
 	for _, f := range []func(k *reckon.Keeper){
 		func(k *reckon.Keeper) { k.Parts("1/0") },
 		func(k *reckon.Keeper) { k.Whole(whole.Mul, "1", "01") },
 		func(k *reckon.Keeper) { k.Quotient("", "0") },
+		func(k *reckon.Keeper) { k.Plus("1", "") },
+		func(k *reckon.Keeper) { k.Minus("x", "1") },
+		func(k *reckon.Keeper) { k.Times("1", "-0") },
+		func(k *reckon.Keeper) { k.Over("", "1") },
+		func(k *reckon.Keeper) { k.Sign("") },
+		func(k *reckon.Keeper) { k.Products([]api.Int{"1", "2"}, []api.Int{"1", "x"}) },
+		func(k *reckon.Keeper) { k.Common([]api.Rat{"1/2", "2/4"}) },
 	} {
 		var k reckon.Keeper
 		if f(&k); k.Errno != api.ErrForm {
 			t.Errorf("error %d", k.Errno)
 		}
+	}
+}
+
+func TestCombine(t *testing.T) {
+	var k reckon.Keeper
+	row, other := []api.Int{"6", "-4", "5"}, []api.Int{"3", "-2", "7"}
+	k.Combine(row, other, 0, "3", "1")
+	if !slices.Equal(row, []api.Int{"0", "0", "-27"}) || !slices.Equal(other, []api.Int{"3", "-2", "7"}) || k.Errno != api.OK {
+		t.Errorf("%v, %v, error %d", row, other, k.Errno)
+	}
+	row = []api.Int{"6", "-4", "8"}
+	k.Combine(row, other, 1, "5", "2")
+	if !slices.Equal(row, []api.Int{"21", "-14", "34"}) || k.Errno != api.OK {
+		t.Errorf("%v, error %d", row, k.Errno)
+	}
+}
+
+func TestCommon(t *testing.T) {
+	for _, x := range []struct {
+		l          []api.Rat
+		numerators []api.Int
+		common     api.Int
+	}{{nil, nil, "1"}, {[]api.Rat{"5", "-3"}, []api.Int{"5", "-3"}, "1"}, {[]api.Rat{"1/6", "-3/4", "0", "2"}, []api.Int{"2", "-9", "0", "24"}, "12"}, {[]api.Rat{"1/2", "1/8", "1/4"}, []api.Int{"4", "1", "2"}, "8"}} {
+		var k reckon.Keeper
+		numerators, common := k.Common(x.l)
+		if !slices.Equal(numerators, x.numerators) || common != x.common || k.Errno != api.OK {
+			t.Errorf("Common(%s): %s over %s, error %d", x.l, numerators, common, k.Errno)
+		}
+	}
+	var k reckon.Keeper
+	long := api.Rat("1/1" + strings.Repeat("0", 599))
+	if k.Common([]api.Rat{long, long + "1"}); k.Errno != api.ErrLarge {
+		t.Errorf("error %d", k.Errno)
 	}
 }
 
