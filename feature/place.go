@@ -1,10 +1,9 @@
 package feature
 
 import (
-	"slices"
-
 	"metrolab/api"
 	"metrolab/checks"
+	"metrolab/clone"
 )
 
 // coordinates returns functions that read and write the coordinates of a place.
@@ -69,9 +68,5 @@ func Turn(f api.Feature, axis int) (api.Feature, api.Errno) {
 // place returns a new feature at another place, which shares no frames with the old one.
 func place(f api.Feature, at api.Spot) api.Feature {
 	f.At = at
-	f.Frames = slices.Clone(f.Frames)
-	for i := range f.Frames {
-		f.Frames[i].Datums = slices.Clone(f.Frames[i].Datums)
-	}
-	return f
+	return clone.Feature(f)
 }
