@@ -148,6 +148,28 @@ func TestIntegers(t *testing.T) {
 	}
 }
 
+func TestOrderOf(t *testing.T) {
+	nines := api.Int(strings.Repeat("9", 1024))
+	fractions := []reckon.Fraction{{"0", "7"}, {"1", nines}, {"1", nines[:1023] + "8"}, {"7", "28"}, {"3", "9"}, {"1", "3"}, {"4", "9"}, {"2", "4"}, {"5", "7"}, {nines[:1023] + "7", nines[:1023] + "8"}, {nines[:1023] + "8", nines}, {nines, nines}, {"7", "7"}, {nines, nines[:1023] + "8"}, {"9", "5"}, {"18", "5"}, {nines, "1"}}
+	order := func(x reckon.Fraction) *big.Rat {
+		num, _ := new(big.Int).SetString(string(x.Num), 10)
+		den, _ := new(big.Int).SetString(string(x.Den), 10)
+		return new(big.Rat).SetFrac(num, den)
+	}
+	for _, x := range fractions {
+		for _, y := range fractions {
+			var k reckon.Keeper
+			if got := k.OrderOf(x, y); got != order(x).Cmp(order(y)) || k.Errno != api.OK {
+				t.Errorf("OrderOf %.30s and %.30s: %d, error %d", x, y, got, k.Errno)
+			}
+		}
+	}
+	var k reckon.Keeper
+	if got := k.OrderOf(reckon.Fraction{Num: "1", Den: "0"}, fractions[0]); got != 0 || k.Errno != api.ErrZero {
+		t.Errorf("OrderOf a fraction without a denominator: %d, error %d", got, k.Errno)
+	}
+}
+
 func TestCombine(t *testing.T) {
 	var k reckon.Keeper
 	row, other := []api.Int{"6", "-4", "5"}, []api.Int{"3", "-2", "7"}
